@@ -1,0 +1,1 @@
+"""Books of tonnes over cuts: see tonnebook.desk.answers."""
