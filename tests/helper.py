@@ -4,6 +4,12 @@ from tonnebook.desk import answers
 
 STATUS = [2]
 BALANCE = [5]
+ASK_USERS = [10]
+ASK_STANDING = [13]
+CHECK = [15]
+
+# The numbers that are farthest out of every range.
+FAR = (-10 ** 18, 10 ** 18)
 
 # A user of each rank: boss 3, clerk 2, hand 1; and second, another of rank 2.
 USERS = ["- user boss 3", "boss user clerk 2", "boss user hand 1", "boss user second 2"]
@@ -36,9 +42,13 @@ def journal(payloads):
     return [byte for payload in payloads for byte in record(payload)]
 
 
-def feed(row):
+def ask_with_row(number, row):
     numbers = codes_of(row)
-    return [0, len(numbers)] + numbers
+    return [number, len(numbers)] + numbers
+
+
+def feed(row):
+    return ask_with_row(0, row)
 
 
 def feeds(row, most=3000):
@@ -59,12 +69,31 @@ def ask_record(number):
 
 
 def ask_place(name):
-    numbers = codes_of(name)
-    return [6, len(numbers)] + numbers
+    return ask_with_row(6, name)
 
 
 def asof(count):
     return [7, count]
+
+
+def ask_month(month):
+    return [8, month]
+
+
+def ask_royalty(month):
+    return [9, month]
+
+
+def ask_sum(row):
+    return ask_with_row(11, row)
+
+
+def ask_written(row):
+    return ask_with_row(12, row)
+
+
+def ask_trail(name):
+    return ask_with_row(14, name)
 
 
 def parted(told):

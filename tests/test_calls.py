@@ -3,11 +3,10 @@
 import unittest
 
 from helper import (
-    BALANCE, PLACES, STATUS, USERS, after, ask_place, ask_record, asof, codes_of, cut, feed, feeds, journal, record,
+    BALANCE, FAR, PLACES, STATUS, USERS, after, ask_place, ask_record, asof, codes_of, cut, feed, feeds, journal, record,
     run, show,
 )
 
-FAR = (-10 ** 18, 10 ** 18)
 TOLD = USERS + ["boss metal gold"] + PLACES + [
     "boss open pit 10 25", "hand move pit mill 5", "boss close", "hand ship mill buyer 2 3", "clerk back 14", "boss close",
 ]

@@ -4,7 +4,8 @@ import random
 import unittest
 
 from helper import (
-    BALANCE, PLACES, STATUS, USERS, ask_place, ask_record, asof, codes_of, cut, feed, feeds, journal, record, run, show,
+    ASK_STANDING, ASK_USERS, BALANCE, CHECK, PLACES, STATUS, USERS, ask_month, ask_place, ask_record, ask_royalty,
+    ask_trail, asof, codes_of, cut, feed, feeds, journal, record, run, show,
 )
 
 TOLD = USERS + ["boss metal gold"] + PLACES + [
@@ -17,7 +18,8 @@ RECORD = record("- user boss 3")
 
 def everything(records):
     """Calls that show all there is, as far as so many records go."""
-    shown = [STATUS, BALANCE, show(0, 1000), show(1000, 1000), ask_place("pit"), ask_place("mill")]
+    shown = [STATUS, BALANCE, show(0, 1000), show(1000, 1000), ask_place("pit"), ask_place("mill"), ASK_USERS]
+    shown += [ask_month(1), ask_month(2), ask_royalty(1), ask_royalty(2), ASK_STANDING, ask_trail("mill"), CHECK]
     return shown + [ask_record(number) for number in range(1, records + 2)]
 
 

@@ -35,6 +35,9 @@ class Move:
         self.target = target
         self.amounts = amounts
 
+    def place_numbers(self):
+        return [self.source.number, self.target.number]
+
 
 class Record:
     """A whole record: where it ends in the journal, and what came of it."""

@@ -1,6 +1,9 @@
 """Calls on one new journal, and their answers."""
 
-from tonnebook.journal import Journal, journal_of
+from tonnebook.books import KINDS
+from tonnebook.journal import LONGEST_PAYLOAD, Journal, journal_of, sum_of, written
+from tonnebook.reckoning import net_into, royalty_on
+from tonnebook.state import state_of
 from tonnebook.words import text_of
 
 OUT_OF_RANGE = -1
@@ -9,10 +12,12 @@ TOO_LONG = -3
 TOO_SHORT = -4
 NO_SUCH_RECORD = -5
 NO_SUCH_PLACE = -6
+NOT_YET = -7
 
 MOST_BYTES = 6000
 MOST_BYTES_SHOWN = 1000
 MOST_RECORDS = 1000
+LAST_MONTH = 1000
 HIGHEST_BYTE = 255
 
 
@@ -87,10 +92,15 @@ def answer_balance(desk, arguments):
     return [0] + desk.journal.books.place_rows()
 
 
+def place_named(desk, row):
+    """The place of which these bytes are the name, or None."""
+    return desk.journal.books.places.get(text_of(row))
+
+
 def answer_place(desk, row):
     if not is_row_of_bytes(row):
         return [OUT_OF_RANGE]
-    place = desk.journal.books.places.get(text_of(row))
+    place = place_named(desk, row)
     if place is None:
         return [NO_SUCH_PLACE]
     return [0, place.number] + place.row()
@@ -108,13 +118,94 @@ def answer_asof(desk, arguments):
     return [0, books.month] + books.place_rows()
 
 
+def month_refusal(desk, month):
+    """Why a month can't be told of, as an answer, or None."""
+    if not 1 <= month <= LAST_MONTH:
+        return [OUT_OF_RANGE]
+    if desk.journal.books.month < month:
+        return [NOT_YET]
+    return None
+
+
+def answer_month(desk, arguments):
+    month = arguments[0]
+    refusal = month_refusal(desk, month)
+    if refusal is not None:
+        return refusal
+    answer = [0]
+    for kind in KINDS:
+        answer.extend(net_into(desk.journal.books, month, kind))
+    return answer
+
+
+def answer_royalty(desk, arguments):
+    month = arguments[0]
+    refusal = month_refusal(desk, month)
+    if refusal is not None:
+        return refusal
+    books = desk.journal.books
+    kilograms = net_into(books, month, "sold")[0]
+    return [0, kilograms, royalty_on(kilograms, books.scale)]
+
+
+def answer_users(desk, arguments):
+    users = desk.journal.books.users
+    answer = [0, len(users)]
+    for name, rank in users.items():
+        answer.extend([rank, len(name)])
+        answer.extend([ord(sign) for sign in name])
+    return answer
+
+
+def answer_sum(desk, row):
+    if not is_row_of_bytes(row):
+        return [OUT_OF_RANGE]
+    return [0, sum_of(row)]
+
+
+def answer_write(desk, row):
+    if not is_row_of_bytes(row) or not 1 <= len(row) <= LONGEST_PAYLOAD:
+        return [OUT_OF_RANGE]
+    return [0] + written(row)
+
+
+def answer_standing(desk, arguments):
+    """The call open: the records whose moves still stand."""
+    answer = [0]
+    for number, record in enumerate(desk.journal.books.records, start=1):
+        if record.move is not None and not record.taken_back:
+            answer.append(number)
+    return answer
+
+
+def answer_trail(desk, row):
+    if not is_row_of_bytes(row):
+        return [OUT_OF_RANGE]
+    place = place_named(desk, row)
+    if place is None:
+        return [NO_SUCH_PLACE]
+    answer = [0]
+    for number, record in enumerate(desk.journal.books.records, start=1):
+        if record.move is not None and place.number in record.move.place_numbers():
+            is_target = record.move.target.number == place.number
+            answer.extend([number, truth(is_target), record.move.amounts[0]])
+    return answer
+
+
+def answer_check(desk, arguments):
+    fresh = journal_of(desk.journal.taken)
+    return [0, truth(state_of(desk.journal) == state_of(fresh))]
+
+
 # By a call's number: what answers it, and how many plain arguments it has; those in ROWED have a row instead.
 ANSWERERS = (
     answer_feed, answer_cut, answer_status, answer_bytes,
     answer_record, answer_balance, answer_place, answer_asof,
+    answer_month, answer_royalty, answer_users, answer_sum,
+    answer_write, answer_standing, answer_trail, answer_check,
 )
-PLAIN_ARGUMENTS = (0, 1, 0, 2, 1, 0, 0, 1)
-ROWED = (0, 6)
+PLAIN_ARGUMENTS = (0, 1, 0, 2, 1, 0, 0, 1, 1, 1, 0, 0, 0, 0, 0, 0)
+ROWED = (0, 6, 11, 12, 14)
 
 
 def answers(calls):

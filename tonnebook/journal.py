@@ -27,6 +27,18 @@ def sum_of(payload):
     return sum([place * byte for place, byte in enumerate(payload, start=1)]) % SUM_MODULUS
 
 
+def digits_of(number, count):
+    """The bytes of a number in so many digits."""
+    return [ord(digit) for digit in str(number).zfill(count)]
+
+
+def written(payload):
+    """A payload as the bytes of a record."""
+    front = digits_of(len(payload), LENGTH_DIGITS) + [BLANK]
+    behind = [SHARP] + digits_of(sum_of(payload), SUM_DIGITS) + [LINE_END]
+    return front + payload + behind
+
+
 def may_be_digits(row):
     return all([ZERO <= byte <= NINE for byte in row])
 
